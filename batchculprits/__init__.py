@@ -1,0 +1,1 @@
+"""Batches and culprits: which batches of items fail, and which items are to blame."""
