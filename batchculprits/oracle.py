@@ -46,9 +46,36 @@ class Oracle:
         """The numbers of the rules that the batch meets, increasing."""
         return [number for number, rule in enumerate(self.rules) if rule.is_met_by(batch)]
 
+    def has_cures(self):
+        """Whether some rule has cures."""
+        for rule in self.rules:
+            if len(rule.cures) > 0:
+                return True
+        return False
+
     def fails(self, batch):
         """One try."""
         for rule in self.rules:
             if rule.is_met_by(batch):
                 return True
         return False
+
+    def least_failing_parts(self, batch):
+        """Failing parts of the batch, the smallest among them if there are any, each in increasing order."""
+        parts = []
+        # A part that meets a rule has its bad items and none of its cures, so the bad items alone meet it too.
+        for rule in self.rules:
+            missing = [item for item in rule.bad if item not in batch]
+            if len(missing) == 0 and rule.is_met_by(rule.bad):
+                parts.append(sorted(rule.bad))
+        return parts
+
+    def failing_pairs(self):
+        """The pairs of items that fail together while each alone passes, the lesser first, in order."""
+        passing = [item for item in range(self.size) if not self.fails([item])]
+        pairs = []
+        for place, item in enumerate(passing):
+            for other in passing[place + 1:]:
+                if self.fails([item, other]):
+                    pairs.append((item, other))
+        return pairs

@@ -37,6 +37,30 @@ def first(*batch):
     return [6] + counted(batch)
 
 
+def suspect(*batch):
+    return [7] + counted(batch)
+
+
+def culprit(*batch):
+    return [8] + counted(batch)
+
+
+def quick(*batch):
+    return [9] + counted(batch)
+
+
+def smallest(*batch):
+    return [10] + counted(batch)
+
+
+def land(way, *batch):
+    return [11, way] + counted(batch)
+
+
+def pairs():
+    return [12]
+
+
 def parted(numbers):
     """The answers one by one; an error if the counts ahead of them don't come out even."""
     parts = []
@@ -57,3 +81,9 @@ def run(*calls):
 
 def last(*calls):
     return run(*calls)[-1]
+
+
+def each_is_needed(line, found):
+    """Whether these items fail, and without any single one of them the others pass."""
+    others = [[other for other in found if other != item] for item in found]
+    return run(*line, fails(*found), *[fails(*part) for part in others])[len(line):] == [[1]] + [[0]] * len(found)
